@@ -4,6 +4,7 @@ package signet
 import (
 	"signet/api"
 	"signet/digest"
+	"signet/signing"
 )
 
 // Hash is a digest in the making.
@@ -29,13 +30,15 @@ func (h *Hash) Write(s string) { h.taken = h.taken.With(s) }
 func (h *Hash) Sum() string { return h.taken.Sum() }
 
 // PublicKey is the public key of a seed (P5).
-func PublicKey(seed string) (string, api.Errno) { return "", api.OK }
+func PublicKey(seed string) (string, api.Errno) { return signing.PublicKey(seed) }
 
 // Sign signs a message (P6).
-func Sign(seed string, message string) (string, api.Errno) { return "", api.OK }
+func Sign(seed string, message string) (string, api.Errno) { return signing.Sign(seed, message) }
 
 // Verify looks whether a signature suits (P7).
-func Verify(key string, message string, signature string) api.Errno { return api.OK }
+func Verify(key string, message string, signature string) api.Errno {
+	return signing.Verify(key, message, signature)
+}
 
 // Encode writes a value (P8).
 func Encode(value []api.Item) (string, api.Errno) { return "", api.OK }
