@@ -5,6 +5,7 @@ import (
 	"signet/api"
 	"signet/digest"
 	"signet/signing"
+	"signet/values"
 )
 
 // Hash is a digest in the making.
@@ -41,10 +42,10 @@ func Verify(key string, message string, signature string) api.Errno {
 }
 
 // Encode writes a value (P8).
-func Encode(value []api.Item) (string, api.Errno) { return "", api.OK }
+func Encode(value []api.Item) (string, api.Errno) { return values.Encode(value) }
 
 // Decode reads a value (P9).
-func Decode(s string) ([]api.Item, api.Errno) { return nil, api.OK }
+func Decode(s string) ([]api.Item, api.Errno) { return values.Decode(s) }
 
 // Seal signs a payload and writes the envelope (P11).
 func Seal(seed string, p api.Parts, aad string) (string, api.Errno) { return "", api.OK }
