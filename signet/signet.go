@@ -4,6 +4,7 @@ package signet
 import (
 	"signet/api"
 	"signet/digest"
+	"signet/envelopes"
 	"signet/signing"
 	"signet/values"
 )
@@ -48,9 +49,11 @@ func Encode(value []api.Item) (string, api.Errno) { return values.Encode(value) 
 func Decode(s string) ([]api.Item, api.Errno) { return values.Decode(s) }
 
 // Seal signs a payload and writes the envelope (P11).
-func Seal(seed string, p api.Parts, aad string) (string, api.Errno) { return "", api.OK }
+func Seal(seed string, p api.Parts, aad string) (string, api.Errno) {
+	return envelopes.Seal(seed, p, aad)
+}
 
 // Open reads an envelope and looks whether its signature suits (P12).
 func Open(key string, envelope string, payload string, detached bool, aad string) (api.Parts, api.Errno) {
-	return api.Parts{}, api.OK
+	return envelopes.Open(key, envelope, payload, detached, aad)
 }

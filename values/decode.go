@@ -9,18 +9,18 @@ import (
 
 // Decode is the value that is written so.
 func Decode(s string) ([]api.Item, api.Errno) {
-	v, errno := read(s)
-	for i, item := range v.items {
+	value, errno := read(s)
+	for i, item := range value {
 		// A piece of s would keep the caller's bytes.
-		v.items[i].S = strings.Clone(item.S)
+		value[i].S = strings.Clone(item.S)
 	}
-	return v.items, errno
+	return value, errno
 }
 
 // read is Decode, but that the items' texts are pieces of s.
-func read(s string) (value, api.Errno) {
+func read(s string) ([]api.Item, api.Errno) {
 	if len(s) > api.MaxBytes {
-		return value{}, api.ErrLong
+		return nil, api.ErrLong
 	}
 	return valueOf(&text{rest: s})
 }

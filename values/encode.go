@@ -12,17 +12,17 @@ func Encode(items []api.Item) (string, api.Errno) {
 	if len(items) > api.MaxItems {
 		return "", api.ErrLong
 	}
-	v, errno := valueOf(&list{items})
+	value, errno := valueOf(&list{items})
 	if errno != api.OK {
 		return "", errno
 	}
-	return v.written()
+	return written(value)
 }
 
 // written stops as soon as it is too long: the items' texts may be longer than the memory has room for.
-func (v value) written() (string, api.Errno) {
+func written(value []api.Item) (string, api.Errno) {
 	var out []byte
-	for _, item := range v.items {
+	for _, item := range value {
 		out = headOf(item).appendTo(out)
 		if len(item.S) > api.MaxBytes-len(out) {
 			return "", api.ErrLong

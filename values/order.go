@@ -9,24 +9,24 @@ import (
 )
 
 // isRising says whether the keys of every map rise.
-func (v value) isRising() bool {
-	for at, item := range v.items {
-		if item.Kind == api.Map && !v.keysRise(at) {
+func isRising(value []api.Item) bool {
+	for at, item := range value {
+		if item.Kind == api.Map && !keysRise(value[at:]) {
 			return false
 		}
 	}
 	return true
 }
 
-func (v value) keysRise(at int) bool {
+// keysRise says so of the one map with which the items begin.
+func keysRise(items []api.Item) bool {
 	var ahead []api.Item // nothing at all is below any key
-	for key := at + 1; key < v.ends[at]; {
-		behind := v.ends[key]
-		own := v.items[key:behind]
-		if slices.CompareFunc(ahead, own, compareWritten) >= 0 {
+	for pair := range slices.Chunk(Inside(items), 2) {
+		key := pair[0]
+		if slices.CompareFunc(ahead, key, compareWritten) >= 0 {
 			return false
 		}
-		ahead, key = own, v.ends[behind]
+		ahead = key
 	}
 	return true
 }

@@ -8,19 +8,19 @@ const (
 	secondsTag  = 1
 	bigTag      = 2
 	bigBelowTag = 3
-	envelopeTag = 18
+	EnvelopeTag = 18
 	encodedTag  = 24
 	addressTag  = 32
 	firstTag    = 55799
 )
 
 // isTaggedWell says whether every tag suits.
-func (v value) isTaggedWell() bool {
-	for at, item := range v.items {
+func isTaggedWell(value []api.Item) bool {
+	for at, item := range value {
 		if item.Kind != api.Tag {
 			continue
 		}
-		if item.N == firstTag && at > 0 || !suits(item.N, v.items[at+1]) {
+		if item.N == firstTag && at > 0 || !suits(item.N, value[at+1]) {
 			return false
 		}
 	}
@@ -36,7 +36,7 @@ func suits(tag uint64, item api.Item) bool {
 		return item.Kind == api.Unsigned || item.Kind == api.Negative || item.Kind == api.Float && isFinite(item.N)
 	case bigTag, bigBelowTag:
 		return item.Kind == api.Bytes && len(item.S) > 8 && item.S[0] != 0
-	case envelopeTag:
+	case EnvelopeTag:
 		return item.Kind == api.Array && item.N == 4
 	case encodedTag:
 		return item.Kind == api.Bytes && isValue(item.S)

@@ -3,56 +3,47 @@ package values
 
 import "signet/api"
 
-// value is a whole value: its items and, of each of them, where what is in it ends.
-type value struct {
-	items []api.Item
-	ends  []int
-}
-
 // source is where the items of a value come from, one after the other.
 type source interface {
 	next(depth int) (api.Item, api.Errno)
 	isEmpty() bool
 }
 
-// valueOf is the value that a source has.
-func valueOf(from source) (value, api.Errno) {
-	var v value
-	errno := v.take(from, 1)
+// valueOf is the value that a source has, in new memory.
+func valueOf(from source) ([]api.Item, api.Errno) {
+	value, errno := appendNext(nil, from, 1)
 	switch {
 	case errno != api.OK:
 	case !from.isEmpty():
 		errno = api.ErrTrailing
-	case !v.isRising():
+	case !isRising(value):
 		errno = api.ErrOrder
-	case !v.isTaggedWell():
+	case !isTaggedWell(value):
 		errno = api.ErrTag
 	default:
-		return v, api.OK
+		return value, api.OK
 	}
-	return value{}, errno
+	return nil, errno
 }
 
-// take takes one item, and what is in it.
-func (v *value) take(from source, depth int) api.Errno {
+// appendNext takes one item, and what is in it.
+func appendNext(value []api.Item, from source, depth int) ([]api.Item, api.Errno) {
 	item, errno := from.next(depth)
 	if errno != api.OK {
-		return errno
+		return nil, errno
 	}
-	at := len(v.items)
-	v.items = append(v.items, item)
-	v.ends = append(v.ends, at)
-	for range inside(item) {
-		if errno := v.take(from, depth+1); errno != api.OK {
-			return errno
+	value = append(value, item)
+	for range countInside(item) {
+		value, errno = appendNext(value, from, depth+1)
+		if errno != api.OK {
+			return nil, errno
 		}
 	}
-	v.ends[at] = len(v.items)
-	return api.OK
+	return value, api.OK
 }
 
-// inside is how many values are in an item, or more than any value has.
-func inside(item api.Item) uint64 {
+// countInside is how many values are in an item, or more than any value has.
+func countInside(item api.Item) uint64 {
 	switch item.Kind {
 	case api.Array:
 		return item.N
@@ -63,4 +54,26 @@ func inside(item api.Item) uint64 {
 		return 1
 	}
 	return 0
+}
+
+// Inside are the values that are in a value, one by one: of a map each key, and behind it what it stands for. They are pieces of the list that is handed in, which must be one that Encode takes or Decode gave; it may go on behind the value.
+func Inside(value []api.Item) [][]api.Item {
+	var all [][]api.Item
+	rest := value[1:]
+	for range countInside(value[0]) {
+		size := sizeOf(rest)
+		all = append(all, rest[:size])
+		rest = rest[size:]
+	}
+	return all
+}
+
+// sizeOf is how many items the value has with which these begin.
+func sizeOf(items []api.Item) int {
+	size := 0
+	for missing := uint64(1); missing > 0; missing-- {
+		missing += countInside(items[size])
+		size++
+	}
+	return size
 }
